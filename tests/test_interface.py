@@ -1,0 +1,51 @@
+"""The names, arguments and places of the interface in DOC.md, as far as it is built."""
+import importlib
+import inspect
+import unittest
+
+# module: {name: arguments as inspect.signature shows them}
+FUNCTIONS = {
+    "words": {
+        "is_word": "(text)", "word_number": "(word)", "word_at": "(number)",
+        "stock_place": "(mentioned, word)", "fresh_words": "(mentioned, count)",
+    },
+    "requests": {
+        "make_request": "(*, words=(), paths=(), sets=(), numbers=())",
+        "word_of": "(request, field)", "part_of": "(request, field, index)",
+        "members_of": "(request, field)", "number_of": "(request, field)",
+        "compare_requests": "(mentioned, one, other)",
+    },
+    "terms": {"value_of": "(term, request)"},
+}
+
+# module: {class: (arguments, {method: arguments})}
+CLASSES = {}
+
+
+class InterfaceTest(unittest.TestCase):
+    def test_functions(self):
+        for module, names in FUNCTIONS.items():
+            there = importlib.import_module("whomaywhat." + module)
+            for name, arguments in names.items():
+                with self.subTest(module=module, name=name):
+                    function = getattr(there, name)
+                    self.assertTrue(inspect.isfunction(function))
+                    self.assertEqual(function.__module__, "whomaywhat." + module)
+                    self.assertEqual(str(inspect.signature(function)), arguments)
+
+    def test_classes(self):
+        for module, names in CLASSES.items():
+            there = importlib.import_module("whomaywhat." + module)
+            for name, (arguments, methods) in names.items():
+                with self.subTest(module=module, name=name):
+                    kind = getattr(there, name)
+                    self.assertTrue(inspect.isclass(kind))
+                    self.assertEqual(kind.__module__, "whomaywhat." + module)
+                    self.assertEqual(str(inspect.signature(kind)), arguments)
+                for method, told in methods.items():
+                    with self.subTest(module=module, name=name, method=method):
+                        self.assertEqual(str(inspect.signature(kind.__dict__[method])), told)
+
+
+if __name__ == "__main__":
+    unittest.main()

@@ -1,0 +1,1 @@
+"""Whomaywhat: access rules, and the comparison of two sets of access rules."""
