@@ -16,10 +16,24 @@ FUNCTIONS = {
         "compare_requests": "(mentioned, one, other)",
     },
     "terms": {"value_of": "(term, request)"},
+    "conditions": {
+        "check_condition": "(condition)", "is_primitive": "(condition)",
+        "holds": "(condition, request, directory=None)",
+    },
+    "writing": {"write_condition": "(condition)", "write_book": "(book)"},
+    "reading": {"read_condition": "(text)", "read_book": "(text)"},
 }
 
 # module: {class: (arguments, {method: arguments})}
-CLASSES = {}
+CLASSES = {
+    "directory": {
+        "Directory": ("(links=())", {
+            "join": "(self, member, group)", "leave": "(self, member, group)",
+            "belongs": "(self, word, group)", "ways": "(self, word, group)",
+            "members": "(self, group)", "groups": "(self, word)", "links": "(self)",
+        }),
+    },
+}
 
 
 class InterfaceTest(unittest.TestCase):
