@@ -22,6 +22,12 @@ FUNCTIONS = {
     },
     "writing": {"write_condition": "(condition)", "write_book": "(book)"},
     "reading": {"read_condition": "(text)", "read_book": "(text)"},
+    "rules": {
+        "check_rule": "(rule)", "applying": "(rules, request, directory=None)",
+        "decide": "(rules, request, directory=None)",
+    },
+    "index": {"needed_pairs": "(condition)"},
+    "atoms": {"is_atom": "(atom)", "literal_of": "(condition)", "makes_true": "(request, literal)"},
 }
 
 # module: {class: (arguments, {method: arguments})}
@@ -31,6 +37,19 @@ CLASSES = {
             "join": "(self, member, group)", "leave": "(self, member, group)",
             "belongs": "(self, word, group)", "ways": "(self, word, group)",
             "members": "(self, group)", "groups": "(self, word)", "links": "(self)",
+        }),
+    },
+    "grants": {
+        "Grants": ("(records=())", {
+            "give": "(self, receiver, condition, passes)", "pass_on": "(self, number, receiver, condition)",
+            "revoke": "(self, number)", "standing": "(self)", "chain": "(self, number)", "rules": "(self)",
+            "records": "(self)",
+        }),
+    },
+    "index": {
+        "Index": ("(rules=())", {
+            "put": "(self, rule)", "drop": "(self, name)", "found": "(self, request)",
+            "decide": "(self, request, directory=None)",
         }),
     },
 }

@@ -29,6 +29,12 @@ BARRED_WORDS = set(
     "type typing typing_extensions enum Enum IntEnum StrEnum Flag IntFlag Generic Protocol ABC ABCMeta namedtuple"
     " NamedTuple TypedDict TYPE_CHECKING abstractmethod dataclass overload contextmanager".split()
 )
+BARRED_BEGINNINGS = r"_(wall|pe_|dcw_|enum_|cm_|twin_re_|lay_|law_|stub_|sre|WallAttr)"
+BARRED_PRIVATE = r"(_cold|_tuplegetter|_outside|_record|_written_out|_member_names)[0-9_]*$"
+BARRED_ATTRIBUTES = set(
+    "items keys values pop update append clear extend insert remove reverse setdefault sort args encode decode hex"
+    " fromhex format".split()
+)
 LIBRARY = {
     "heapq": "heappush heappop heapify heapreplace heappushpop".split(),
     "math": "gcd lcm isqrt comb perm factorial".split(),
@@ -152,9 +158,19 @@ class LanguageTest(unittest.TestCase):
                     self.assertNotIn(bound, BARRED_NAMES)
                     self.assertNotIn(bound, imports)
                     self.assertEqual(bound_within(tree).count(bound) if bound in classes else 1, 1)
+                    self.assertIsNone(re.match(BARRED_BEGINNINGS, bound))
+                    self.assertIsNone(re.match(BARRED_PRIVATE, bound))
                     if bound not in methods:
                         self.assertFalse(hasattr(builtins, bound))
                         self.assertFalse(bound.startswith("__"))
+
+    def test_attributes(self):
+        methods = set().union(*[methods_of(tree) for tree in self.trees.values()])
+        for name, tree in self.trees.items():
+            for node in ast.walk(tree):
+                if isinstance(node, ast.Attribute) and not isinstance(node.ctx, ast.Load):
+                    with self.subTest(file=name, attribute=node.attr):
+                        self.assertNotIn(node.attr, methods | BARRED_ATTRIBUTES)
 
     def test_builtins(self):
         for name, tree in self.trees.items():

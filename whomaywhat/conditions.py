@@ -2,7 +2,7 @@
 
 from whomaywhat.errors import InvalidCondition
 from whomaywhat.requests import members_of, number_of, part_of
-from whomaywhat.terms import target_words, value_of
+from whomaywhat.terms import BLANK, target_words, value_of
 from whomaywhat.words import is_word
 
 TRUE = ("true",)
@@ -102,7 +102,7 @@ def _check_template(terms):
         raise InvalidCondition(f"a template has at most {MOST_TERMS} terms")
     for term in terms:
         _check_term(term)
-        if term == ("name", ""):
+        if term == BLANK:
             raise InvalidCondition("the blank does not stand in a template")
 
 

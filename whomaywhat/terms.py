@@ -3,6 +3,8 @@
 from whomaywhat.requests import members_of, part_of, word_of
 from whomaywhat.words import word_number
 
+BLANK = ("name", "")
+
 
 def value_of(term, request):
     """The word or blank for which the term stands."""
