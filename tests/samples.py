@@ -1,4 +1,6 @@
 """Random valid conditions and requests for the tests."""
+from whomaywhat.atoms import is_atom
+from whomaywhat.requests import make_request
 
 WORDS = ("a", "b", "aa", "who", "is", "not", "permit", "zoe", "x" * 30)
 FIELDS = ("who", "in", "thing", "s", "t")
@@ -61,3 +63,41 @@ def nested(depth, deepest=("true",), kinds=("not",)):
         kind = kinds[level % len(kinds)]
         result = (kind, result) if kind == "not" else (kind, (("true",), result, ("false",)))
     return result
+
+
+def random_request(dice):
+    """A request whose values the random conditions often speak of."""
+    words = ["a", "b", "aa", "who", "is"]
+    return make_request(
+        words=[(field, dice.choice(words)) for field in ("who", "in", "s") if dice.random() < 0.7],
+        paths=[(f, [dice.choice(words) for _ in range(dice.randrange(4))]) for f in ("thing", "s", "in")],
+        sets=[(f, [dice.choice(words) for _ in range(dice.randrange(3))]) for f in ("who", "s", "t")],
+        numbers=[(f, dice.randrange(-8, 9)) for f in ("who", "s")],
+    )
+
+
+def random_target(dice, sets, words):
+    if dice.random() < 0.5:
+        return ("set", dice.choice(sets))
+    return ("names", tuple(sorted(dice.sample(words, dice.randrange(len(words) + 1)))))
+
+
+def random_case(dice, many, sets="stu", words="abc", parts=4, with_others=False):
+    """A case of this many literals with few terms, so that they often have to do with each other."""
+    terms = [("name", word) for word in ("", *words[:2])]
+    fields = [("field", "f"), ("field", "g")]
+    paths = [("part", "p", index) for index in range(parts)]
+    literals, others = [], []
+    while len(literals) < many:
+        few = [dice.choice(dice.choice([terms, fields, paths] + [others] * bool(others))) for _ in range(2)]
+        kind = dice.choice(("is", "is", "in", "within"))
+        if kind == "is":
+            atom = ("is", *few)
+        elif kind == "in":
+            atom = ("in", few[0], dice.choice(sets))
+        else:
+            atom = ("within", dice.choice(sets), random_target(dice, sets, words))
+            others += [("other", *atom[1:])] * with_others
+        if is_atom(atom):
+            literals.append((atom, dice.random() < 0.6))
+    return tuple(literals)

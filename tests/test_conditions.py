@@ -2,7 +2,7 @@ import random
 import unittest
 
 from samples import condition as random_condition
-from samples import nested
+from samples import nested, random_request
 from whomaywhat import conditions
 from whomaywhat.conditions import check_condition, holds, is_primitive
 from whomaywhat.directory import Directory
@@ -218,16 +218,10 @@ class HoldsTest(unittest.TestCase):
 
     def test_random_conditions_against_the_definition(self):
         dice = random.Random(10)
-        words = ["a", "b", "aa", "who", "is"]
         directory = Directory([("a", "s"), ("aa", "s"), ("b", "t"), ("t", "who")])
         seen = []
         for _ in range(3000):
-            request = make_request(
-                words=[(field, dice.choice(words)) for field in ("who", "in", "s") if dice.random() < 0.7],
-                paths=[(f, [dice.choice(words) for _ in range(dice.randrange(4))]) for f in ("thing", "s", "in")],
-                sets=[(f, [dice.choice(words) for _ in range(dice.randrange(3))]) for f in ("who", "s", "t")],
-                numbers=[(f, dice.randrange(-8, 9)) for f in ("who", "s")],
-            )
+            request = random_request(dice)
             condition = random_condition(dice, 5)
             seen.append(holds(condition, request, directory))
             self.assertIs(seen[-1], slow_holds(condition, request, directory))

@@ -2,6 +2,7 @@ import random
 import unittest
 
 from samples import condition as random_condition
+from samples import random_request
 from whomaywhat.conditions import holds
 from whomaywhat.directory import Directory
 from whomaywhat.errors import NoRule
@@ -105,16 +106,6 @@ class NeededPairsTest(unittest.TestCase):
                     needing += len(pairs)
                     self.assertTrue(all(value_of(term, request) == word for term, word in pairs))
         self.assertGreater(needing, 100)
-
-
-def random_request(dice):
-    words = ["a", "b", "aa", "who", "is"]
-    return make_request(
-        words=[(field, dice.choice(words)) for field in ("who", "in", "s") if dice.random() < 0.7],
-        paths=[(f, [dice.choice(words) for _ in range(dice.randrange(4))]) for f in ("thing", "s", "in")],
-        sets=[(f, [dice.choice(words) for _ in range(dice.randrange(3))]) for f in ("who", "s", "t")],
-        numbers=[(f, dice.randrange(-8, 9)) for f in ("who", "s")],
-    )
 
 
 class IndexTest(unittest.TestCase):

@@ -27,6 +27,16 @@ FUNCTIONS = {
         "decide": "(rules, request, directory=None)",
     },
     "index": {"needed_pairs": "(condition)"},
+    "bounds": {
+        "bound_of": "(literal)", "is_ring": "(literals)", "find_ring": "(literals)",
+        "nearest_numbers": "(literals, fields)",
+    },
+    "sameness": {"facts_of": "(case, steps)", "is_closed": "(case, steps)", "find_steps": "(case)"},
+    "models": {"is_possible": "(case)", "least_model": "(mentioned, case)"},
+    "views": {
+        "compiled": "(condition, directory)", "view_of": "(rules, directory)",
+        "mentioned_words": "(left, right, where)", "question_atoms": "(left, right, where)",
+    },
     "atoms": {"is_atom": "(atom)", "literal_of": "(condition)", "makes_true": "(request, literal)"},
 }
 

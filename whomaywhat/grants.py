@@ -1,6 +1,7 @@
 """Grants: given by the house, passed on by their receivers, and revoked."""
 
 from whomaywhat.errors import NoGrant, NoPasses
+from whomaywhat.rules import GRANT
 from whomaywhat.words import word_at
 
 
@@ -72,7 +73,7 @@ class Grants:
         conditions = [("is", ("field", "who"), ("name", receiver))]
         for above in self.chain(number):
             conditions.append(self._grant_of(above)[3])
-        return ("grant" + word_at(number), "permit", 0, ("all", tuple(conditions)))
+        return (GRANT + word_at(number), "permit", 0, ("all", tuple(conditions)))
 
     def records(self):
         """All records, a tuple in ascending order of the numbers."""

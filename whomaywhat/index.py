@@ -70,7 +70,8 @@ class Index:
             return
         term, word = pairs[0]
         self._pairs[name] = pairs[0]
-        self._filed.setdefault(term, {}).setdefault(word, {})[name] = True
+        filed = self._filed.setdefault(term, {}).setdefault(word, {})
+        filed[name] = True
 
     def drop(self, name):
         """Removes the rule of this name."""
