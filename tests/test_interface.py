@@ -37,6 +37,10 @@ FUNCTIONS = {
         "compiled": "(condition, directory)", "view_of": "(rules, directory)",
         "mentioned_words": "(left, right, where)", "question_atoms": "(left, right, where)",
     },
+    "guesses": {"guess": "(condition, case)", "sure_verdict": "(view, case)"},
+    "papers": {"judge": "(left, right, where, paper)"},
+    "trimming": {"trimmed": "(left, right, where, paper)"},
+    "ordering": {"question_cells": "(left, right, where)", "earlier_than": "(left, right, where, request)"},
     "atoms": {"is_atom": "(atom)", "literal_of": "(condition)", "makes_true": "(request, literal)"},
 }
 

@@ -29,6 +29,23 @@ def terms_of(condition):
     return ()
 
 
+def set_fields_of(condition):
+    """The set fields that stand in a simple condition, also as a target, a tuple."""
+    if condition[0] == "in":
+        return condition[2:]
+    if condition[0] == "within":
+        field, target = condition[1:]
+        return (field, target[1]) if target[0] == "set" else (field,)
+    return ()
+
+
+def number_fields_of(condition):
+    """The number fields that stand in a simple condition, without the blank, a tuple."""
+    if condition[0] == "most":
+        return tuple([field for field in condition[1:3] if field != ""])
+    return ()
+
+
 def listed_words(condition):
     """The words of the "names" target that stands in a simple condition, a tuple."""
     if condition[0] == "within" and condition[2][0] == "names":

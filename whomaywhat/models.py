@@ -1,6 +1,6 @@
 """Possible cases, and the least models of plain cases."""
 
-from whomaywhat.atoms import terms_of
+from whomaywhat.atoms import number_fields_of, set_fields_of, terms_of
 from whomaywhat.bounds import find_ring, nearest_numbers
 from whomaywhat.clusters import can_be_met, clusters_of
 from whomaywhat.requests import make_request
@@ -31,26 +31,17 @@ def _number_literals(case):
     return tuple([literal for literal in case if literal[0][0] == "most"])
 
 
-def _number_fields(literals):
-    fields = {field: True for atom, _ in literals for field in atom[1:3] if field != ""}
-    return tuple(sorted(fields))
-
-
 def _terms_in(case):
     """The terms of the literals, in ascending order without duplicates."""
     return sorted({term: True for atom, _ in case for term in terms_of(atom)})
 
 
 def _set_fields(case):
-    fields = {}
-    for atom, _ in case:
-        if atom[0] == "in":
-            fields[atom[2]] = True
-        elif atom[0] == "within":
-            fields[atom[1]] = True
-            if atom[2][0] == "set":
-                fields[atom[2][1]] = True
-    return sorted(fields)
+    return sorted({field: True for atom, _ in case for field in set_fields_of(atom)})
+
+
+def _number_fields(literals):
+    return tuple(sorted({field: True for atom, _ in literals for field in number_fields_of(atom)}))
 
 
 def _least_paths(choice, terms):

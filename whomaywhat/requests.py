@@ -87,19 +87,21 @@ def _cell_keys(mentioned, one, other):
             theirs = part_of(other, field, index)
             yield stock_place(mentioned, mine), stock_place(mentioned, theirs)
     for field in _all_fields(one[2], other[2]):
-        yield _set_key(mentioned, members_of(one, field)), _set_key(mentioned, members_of(other, field))
+        yield set_key(mentioned, members_of(one, field)), set_key(mentioned, members_of(other, field))
     for field in _all_fields(one[3], other[3]):
-        yield _number_key(number_of(one, field)), _number_key(number_of(other, field))
+        yield number_key(number_of(one, field)), number_key(number_of(other, field))
 
 
 def _all_fields(section, other_section):
     return sorted({pair[0] for pair in section + other_section})
 
 
-def _set_key(mentioned, members):
+def set_key(mentioned, members):
+    """A key by which sets, given by their members, compare as values of a cell do."""
     # From the last place on: the first difference of two such lists is at the word that decides.
     return sorted([stock_place(mentioned, member) for member in members], reverse=True)
 
 
-def _number_key(number):
+def number_key(number):
+    """A key by which numbers compare as values of a cell do."""
     return (abs(number), number < 0)

@@ -25,6 +25,15 @@ def indexes_in(step):
     return ()
 
 
+def literals_in(step):
+    """The literals of the case that stand in the step."""
+    if step[0] in ("given", "over", "beyond"):
+        return (step[1],)
+    if step[0] in ("pass", "listed"):
+        return (step[2],)
+    return ()
+
+
 def with_indexes(step, places):
     """The step with each index in it replaced by its place."""
     if step[0] in ("turn", "end", "filled", "pass"):

@@ -52,7 +52,7 @@ def view_of(rules, directory):
 def mentioned_words(left, right, where):
     """The mentioned words of the question, a tuple in alphabetical order."""
     words = {}
-    for condition in _simple_conditions(left, right, where):
+    for condition in simple_conditions(left, right, where):
         for word in _words_in(condition):
             if word != "":
                 words[word] = True
@@ -62,14 +62,14 @@ def mentioned_words(left, right, where):
 def question_atoms(left, right, where):
     """The atoms of the question, a tuple in ascending order."""
     atoms = {}
-    for condition in _simple_conditions(left, right, where):
+    for condition in simple_conditions(left, right, where):
         literal = literal_of(condition)
         if literal is not True and literal is not False:
             atoms[literal[0]] = True
     return tuple(sorted(atoms))
 
 
-def _simple_conditions(left, right, where):
+def simple_conditions(left, right, where):
     """The simple conditions that stand anywhere in the question."""
     conditions = [rule[3] for rule in (*left, *right)]
     return [simple for condition in (*conditions, where) for simple in _simple_within(condition)]
