@@ -3,9 +3,12 @@ from whomaywhat.atoms import is_atom
 from whomaywhat.bounds import find_ring, is_ring
 from whomaywhat.conditions import holds
 from whomaywhat.guesses import guess, sure_verdict
+from whomaywhat.ordering import question_cells
+from whomaywhat.plainly import number_bound
 from whomaywhat.rules import decide
 from whomaywhat.sameness import find_steps, is_closed
-from whomaywhat.views import question_atoms
+from whomaywhat.views import mentioned_words, question_atoms
+from whomaywhat.words import fresh_words
 
 YES, NO, BLANK = ("true",), ("false",), ("name", "")
 WHO, OWNER = ("field", "who"), ("field", "owner")
@@ -78,6 +81,27 @@ def random_question(dice, items, most_rules=3):
 def answers(left, right, where, request):
     """Whether the request answers the question, as point [42] says."""
     return holds(where, request) and decide(left, request)[0] == "permit" and decide(right, request)[0] == "refuse"
+
+
+def stock_of(question):
+    cells = question_cells(*question)
+    withins = [atom for atom in question_atoms(*question) if atom[0] == "within"]
+    mentioned = mentioned_words(*question)
+    return ["", *mentioned, *fresh_words(mentioned, len([c for c in cells if c[0] in ("word", "part")]) + len(withins))]
+
+
+def box_size(question):
+    """The number of requests in the box, counted from the cells."""
+    stock, bound = len(stock_of(question)), number_bound(*question)
+    size, paths = 1, {}
+    for cell in question_cells(*question):
+        if cell[0] == "part":
+            paths[cell[1]] = paths.get(cell[1], 0) + 1
+        else:
+            size *= {"word": stock, "set": 2 ** (stock - 1), "number": 2 * bound + 1}[cell[0]]
+    for length in paths.values():
+        size *= sum((stock - 1) ** parts for parts in range(length + 1))
+    return size
 
 
 def branches(paper):

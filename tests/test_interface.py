@@ -1,4 +1,4 @@
-"""The names, arguments and places of the interface in DOC.md, as far as it is built."""
+"""The names, arguments and places of the interface in DOC.md."""
 import importlib
 import inspect
 import unittest
@@ -41,6 +41,15 @@ FUNCTIONS = {
     "papers": {"judge": "(left, right, where, paper)"},
     "trimming": {"trimmed": "(left, right, where, paper)"},
     "ordering": {"question_cells": "(left, right, where)", "earlier_than": "(left, right, where, request)"},
+    "comparing": {"compare": "(left, right, *, where=('true',))"},
+    "plainly": {
+        "number_bound": "(left, right, where)", "box": "(left, right, where)", "first_answer": "(left, right, where)",
+    },
+    "uses": {
+        "newly_permitted": "(old, new)", "same_view": "(one, two)", "lean": "(view)", "shows_at": "(view, name)",
+        "least_permitted": "(view, where)", "meeting": "(view, one, two)",
+    },
+    "reaching": {"reach_of": "(house)", "way_in": "(house, request)", "first_let_in": "(house)"},
     "atoms": {"is_atom": "(atom)", "literal_of": "(condition)", "makes_true": "(request, literal)"},
 }
 
@@ -58,6 +67,12 @@ CLASSES = {
             "give": "(self, receiver, condition, passes)", "pass_on": "(self, number, receiver, condition)",
             "revoke": "(self, number)", "standing": "(self)", "chain": "(self, number)", "rules": "(self)",
             "records": "(self)",
+        }),
+    },
+    "house": {
+        "House": ("(rules=(), links=(), *, guarded=False)", {
+            "do": "(self, deed)", "ask": "(self, request)", "rules": "(self)", "view": "(self)", "state": "(self)",
+            "kept": "(self)",
         }),
     },
     "index": {
@@ -92,6 +107,19 @@ class InterfaceTest(unittest.TestCase):
                 for method, told in methods.items():
                     with self.subTest(module=module, name=name, method=method):
                         self.assertEqual(str(inspect.signature(kind.__dict__[method])), told)
+
+    def test_properties(self):
+        there = importlib.import_module("whomaywhat.house")
+        self.assertIsInstance(there.House.__dict__["guarded"], property)
+
+    def test_arguments_by_name(self):
+        house = importlib.import_module("whomaywhat.house").House(guarded=True, links=[("a", "b")], rules=())
+        self.assertEqual((house.guarded, house.state()), (True, ((), (("a", "b"),), ())))
+        compare = importlib.import_module("whomaywhat.comparing").compare
+        self.assertEqual(compare((), (), where=("false",))[0], "none")
+        for wrong in (lambda: compare((), (), ("true",)), lambda: importlib.import_module("whomaywhat.house").House((), (), True)):
+            with self.assertRaises(TypeError):
+                wrong()
 
 
 if __name__ == "__main__":

@@ -247,6 +247,18 @@ class Clusters:
                         best, fewest = leader, words
         return best, self._worth_trying(best, fewest)
 
+    def untold_word(self):
+        """A term in a listed set, and a listed word that it may be or not be by what is told.
+
+        The case is not possible, but not broken, and the search for steps did not close it.
+        """
+        leader = self.narrowest()[0]
+        shortest = min(self._lists_around(leader), key=len)
+        for word in shortest:
+            if self.leaders[("name", word)] not in self.apart[leader]:
+                return leader, word
+        return None
+
     def _words_for(self, leader, lists):
         shortest = min(lists, key=len)
         return [word for word in shortest if self.may_be(leader, word) and all(word in listed for listed in lists)]

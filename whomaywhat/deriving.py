@@ -33,7 +33,8 @@ class Search:
     """
 
     def __init__(self, case):
-        self.case = case
+        # A dict, so that it is quick to see whether a literal belongs to the case.
+        self.case = {literal: True for literal in case}
         self.steps = []
         self.facts = []
         self.known = {}

@@ -5,6 +5,11 @@ from whomaywhat.rules import GRANT
 from whomaywhat.words import word_at
 
 
+def grant_name(number):
+    """The name of the rule of the grant with this number."""
+    return GRANT + word_at(number)
+
+
 class Grants:
     """Grants with the numbers 1, 2, 3 and so on, in the order in which they were made."""
 
@@ -73,7 +78,7 @@ class Grants:
         conditions = [("is", ("field", "who"), ("name", receiver))]
         for above in self.chain(number):
             conditions.append(self._grant_of(above)[3])
-        return (GRANT + word_at(number), "permit", 0, ("all", tuple(conditions)))
+        return (grant_name(number), "permit", 0, ("all", tuple(conditions)))
 
     def records(self):
         """All records, a tuple in ascending order of the numbers."""
