@@ -52,7 +52,10 @@ def simple_condition(dice, items):
     if kind == "within":
         names = tuple(word for word in items["words"] if dice.random() < 0.5)
         return (kind, dice.choice(items["sets"]), dice.choice((("set", dice.choice(items["sets"])), ("names", names))))
-    return (kind, dice.choice(items["numbers"]), dice.choice(items["numbers"]), dice.randint(-items["most"], items["most"]))
+    return (
+        kind, dice.choice(items["numbers"]), dice.choice(items["numbers"]),
+        dice.randint(-items["most"], items["most"]),
+    )
 
 
 def primitive_condition(dice, items, depth):
@@ -68,7 +71,10 @@ def primitive_condition(dice, items, depth):
 def random_view(dice, items, most_rules, depth=3):
     names = sorted(dice.sample("abcdefghij", dice.randrange(most_rules + 1)))
     return tuple(
-        (name, dice.choice(("permit", "permit", "forbid")), dice.randrange(-1, 2), primitive_condition(dice, items, depth))
+        (
+            name, dice.choice(("permit", "permit", "forbid")), dice.randrange(-1, 2),
+            primitive_condition(dice, items, depth),
+        )
         for name in names
     )
 
@@ -104,9 +110,9 @@ def box_size(question):
     return size
 
 
-def branches(paper):
+def branches(paper, case=()):
     """Pairs of a line that is no split and the case that it closes."""
-    cases, found = [()], []
+    cases, found = [case], []
     for line in paper:
         case = cases.pop()
         if line[0] == "split":
@@ -141,7 +147,9 @@ def _lines_for(question, atoms, case):
         return (("open", case),)
     atom = atoms[len(case)]
     lines = (("split", atom),)
-    return lines + _lines_for(question, atoms, (*case, (atom, True))) + _lines_for(question, atoms, (*case, (atom, False)))
+    for truth in (True, False):
+        lines += _lines_for(question, atoms, (*case, (atom, truth)))
+    return lines
 
 
 def closing_candidates(case):

@@ -74,7 +74,10 @@ class GuessTest(unittest.TestCase):
                 self.assertIs(guess(condition, case), told == truth)
 
     def test_literals_with_other_terms(self):
-        case = ((("is", ("name", "a"), ("other", "s", ("set", "t"))), True), (("in", ("other", "s", ("set", "t")), "s"), True))
+        case = (
+            (("is", ("name", "a"), ("other", "s", ("set", "t"))), True),
+            (("in", ("other", "s", ("set", "t")), "s"), True),
+        )
         self.assertIsNone(guess(("in", WHO, "s"), case))
         self.assertIs(guess(("in", WHO, "s"), (*case, (("in", WHO, "s"), False))), False)
 
@@ -107,7 +110,9 @@ class GuessTest(unittest.TestCase):
     def test_against_requests(self):
         """A guess that is not None is right, and stays in a longer case."""
         dice = random.Random(40)
-        items = {**WIDE, "terms": (WHO, ("field", "s"), part(0, "thing"), part(1, "thing"), BLANK, name("a"), name("b"))}
+        items = {
+            **WIDE, "terms": (WHO, ("field", "s"), part(0, "thing"), part(1, "thing"), BLANK, name("a"), name("b")),
+        }
         items = {**items, "sets": ("who", "s", "t"), "words": "ab", "numbers": ("", "s", "who"), "most": 6}
         told = {True: 0, False: 0, None: 0}
         for _ in range(1500):

@@ -69,7 +69,10 @@ class ConstructorTest(Case):
         links = [("zoe", "dev"), ("ann", "dev"), ("dev", "staff")]
         for given_rules, given_links in ((rules, links), (tuple(rules[::-1]), tuple(links[::-1]))):
             house = House(given_rules, given_links)
-            self.assertEqual(house.state(), ((rules[1], rules[2], rules[0]), (("ann", "dev"), ("dev", "staff"), ("zoe", "dev")), ()))
+            self.assertEqual(
+                house.state(),
+                ((rules[1], rules[2], rules[0]), (("ann", "dev"), ("dev", "staff"), ("zoe", "dev")), ()),
+            )
             self.assertEqual(house.rules(), (rules[1], rules[2], rules[0]))
             self.assertEqual(house.view(), view_of(rules, Directory(links)))
         self.assertEqual(House(rules=rules, links=links, guarded=True).state(), House(rules, links).state())
@@ -121,7 +124,8 @@ class DeedTest(Case):
         house = House([PERMIT], [("ann", "staff")])
         for wrong, error in (
             (rule("", YES), InvalidRule), (rule("A", YES), InvalidRule), (rule("grant", YES), InvalidRule),
-            (rule("granta", YES), InvalidRule), (rule("a", YES, "deny"), InvalidRule), (rule("a", BAD), InvalidCondition),
+            (rule("granta", YES), InvalidRule), (rule("a", YES, "deny"), InvalidRule),
+            (rule("a", BAD), InvalidCondition),
             (rule("a", TOO_DEEP), InvalidCondition), (rule("1", BAD), InvalidRule), (rule("a", BAD, ""), InvalidRule),
         ):
             self.refused(error, house, ("set", wrong))
@@ -229,7 +233,8 @@ class HistoryTest(Case):
     def test_undo_and_redo(self):
         house = House([PERMIT], [("ann", "dev")])
         deeds = (
-            ("set", rule("b", ANN)), ("join", "bob", "dev"), ("drop", "a"), ("give", "ann", YES, 1), ("pass", 1, "bob", NO),
+            ("set", rule("b", ANN)), ("join", "bob", "dev"), ("drop", "a"), ("give", "ann", YES, 1),
+            ("pass", 1, "bob", NO),
             ("leave", "ann", "dev"), ("revoke", 1), ("set", rule("b", BOB, "forbid", 3)),
         )
         states = [house.state()]
@@ -275,7 +280,9 @@ class HistoryTest(Case):
 
     def test_numbers_of_undone_grants_are_used_again(self):
         house = House()
-        self.assertEqual(self.run_through(house, ("give", "ann", YES, 1), ("pass", 1, "bob", YES), ("undo",)), [1, 2, None])
+        self.assertEqual(
+            self.run_through(house, ("give", "ann", YES, 1), ("pass", 1, "bob", YES), ("undo",)), [1, 2, None],
+        )
         self.assertEqual(house.do(("give", "cid", NO, 0)), 2)
         self.assertEqual(house.state()[2][1], (2, 0, "cid", NO, 0, False))
         self.run_through(house, ("undo",), ("undo",))
@@ -286,7 +293,9 @@ class HistoryTest(Case):
 
     def test_redo_brings_the_same_numbers_back(self):
         house = House()
-        self.run_through(house, ("give", "ann", YES, 1), ("pass", 1, "bob", YES), ("undo",), ("undo",), ("redo",), ("redo",))
+        self.run_through(
+            house, ("give", "ann", YES, 1), ("pass", 1, "bob", YES), ("undo",), ("undo",), ("redo",), ("redo",),
+        )
         self.assertEqual([one[:2] for one in house.state()[2]], [(1, 0), (2, 1)])
         self.assertEqual(house.do(("pass", 1, "cid", YES)), 3)
 
@@ -388,10 +397,13 @@ GROUPS = ("s", "t", "who", "in")
 
 
 def random_deed(dice):
-    kind = dice.choice(("set", "set", "drop", "join", "join", "leave", "give", "pass", "revoke", "undo", "undo", "redo"))
+    kind = dice.choice(
+        ("set", "set", "drop", "join", "join", "leave", "give", "pass", "revoke", "undo", "undo", "redo"),
+    )
     condition = random_condition(dice, dice.randrange(1, 4)) if dice.random() < 0.9 else BAD
     if kind == "set":
-        return (kind, (dice.choice(("p", "q", "r", "grantx")), dice.choice(("permit", "permit", "forbid")), dice.randrange(2), condition))
+        word, effect = dice.choice(("p", "q", "r", "grantx")), dice.choice(("permit", "permit", "forbid"))
+        return (kind, (word, effect, dice.randrange(2), condition))
     if kind == "drop":
         return (kind, dice.choice("pqrs"))
     if kind in ("join", "leave"):
@@ -548,8 +560,10 @@ class GuardTest(Case):
         house = self.guarded([rule("a", ANN)], [("ann", "dev")])
         house.do(("give", "ann", NO, 0))
         for deed, error in (
-            (("set", rule("grantz", YES)), InvalidRule), (("set", rule("b", BAD)), InvalidCondition), (("drop", "b"), NoRule),
-            (("join", "ann", "dev"), AlreadyLinked), (("join", "dev", "ann"), Circle), (("leave", "dev", "ann"), NotLinked),
+            (("set", rule("grantz", YES)), InvalidRule), (("set", rule("b", BAD)), InvalidCondition),
+            (("drop", "b"), NoRule),
+            (("join", "ann", "dev"), AlreadyLinked), (("join", "dev", "ann"), Circle),
+            (("leave", "dev", "ann"), NotLinked),
             (("give", "bob", BAD, 0), InvalidCondition), (("pass", 1, "bob", BAD), InvalidCondition),
             (("pass", 1, "bob", YES), NoPasses), (("pass", 2, "bob", YES), NoGrant), (("revoke", 2), NoGrant),
             (("redo",), NothingToRedo),
@@ -560,8 +574,8 @@ class GuardTest(Case):
     def test_a_house_that_is_not_guarded_never_refuses(self):
         house = House([rule("a", NO)], [("ann", "staff")])
         self.run_through(
-            house, ("set", rule("b", YES)), ("drop", "a"), ("undo",), ("redo",), ("set", rule("c", YES, "forbid", 1)), ("drop", "c"),
-            ("give", "ann", YES, 1), ("pass", 1, "bob", YES), ("undo",), ("redo",),
+            house, ("set", rule("b", YES)), ("drop", "a"), ("undo",), ("redo",), ("set", rule("c", YES, "forbid", 1)),
+            ("drop", "c"), ("give", "ann", YES, 1), ("pass", 1, "bob", YES), ("undo",), ("redo",),
         )
 
     def test_only_what_was_permitted_at_the_start(self):
@@ -695,8 +709,11 @@ class KeptTest(Case):
         """Words and parts of paths count, in any field; members of sets and names of fields do not."""
         requests = {
             "word": make_request(words=[("owner", "eve")]), "first": make_request(paths=[("p", ["eve", "x"])]),
-            "last": make_request(paths=[("p", ["x"]), ("q", ["x", "y", "eve"])]), "set": make_request(sets=[("s", ["eve"])]),
-            "field": make_request(words=[("eve", "x")], paths=[("eve", ["x"])], sets=[("eve", ["x"])], numbers=[("eve", 3)]),
+            "last": make_request(paths=[("p", ["x"]), ("q", ["x", "y", "eve"])]),
+            "set": make_request(sets=[("s", ["eve"])]),
+            "field": make_request(
+                words=[("eve", "x")], paths=[("eve", ["x"])], sets=[("eve", ["x"])], numbers=[("eve", 3)],
+            ),
             "none": NOTHING,
         }
         for links, deed in (
@@ -743,13 +760,16 @@ class KeptTest(Case):
             for request in self.all:
                 house.ask(request)
             for deed in (
-                ("drop", "z"), ("set", rule("a", BAD)), ("join", "ann", "dev"), ("join", "staff", "ann"), ("leave", "a", "b"),
+                ("drop", "z"), ("set", rule("a", BAD)), ("join", "ann", "dev"), ("join", "staff", "ann"),
+                ("leave", "a", "b"),
                 ("pass", 1, "bob", YES), ("revoke", 1), ("undo",), ("redo",), ("give", "ann", BAD, 0),
             ):
                 with self.assertRaises(AccessError):
                     house.do(deed)
                 self.assertEqual(house.kept(), self.all)
-        for deed in (("drop", "b"), ("set", rule("d", YES, "permit", 9)), ("give", "zoe", YES, 0), ("join", "zoe", "staff")):
+        for deed in (
+            ("drop", "b"), ("set", rule("d", YES, "permit", 9)), ("give", "zoe", YES, 0), ("join", "zoe", "staff"),
+        ):
             self.refused(Widening, guarded, deed)
             self.assertEqual(guarded.kept(), self.all)
         guarded.do(("drop", "c"))

@@ -117,7 +117,10 @@ class InterfaceTest(unittest.TestCase):
         self.assertEqual((house.guarded, house.state()), (True, ((), (("a", "b"),), ())))
         compare = importlib.import_module("whomaywhat.comparing").compare
         self.assertEqual(compare((), (), where=("false",))[0], "none")
-        for wrong in (lambda: compare((), (), ("true",)), lambda: importlib.import_module("whomaywhat.house").House((), (), True)):
+        for wrong in (
+            lambda: compare((), (), ("true",)),
+            lambda: importlib.import_module("whomaywhat.house").House((), (), True),
+        ):
             with self.assertRaises(TypeError):
                 wrong()
 

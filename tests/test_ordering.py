@@ -41,7 +41,10 @@ class QuestionCellsTest(unittest.TestCase):
         self.cells([("word", "who")], ("is", WHO, WHO))
         self.cells([("word", "owner"), ("word", "who")], ("is", WHO, OWNER))
         self.cells([("word", "who"), ("set", "s")], ("in", WHO, "s"))
-        self.cells([("word", word) for word in ("a", "aa", "b")], *[("is", ("field", word), BLANK) for word in ("b", "aa", "a")])
+        self.cells(
+            [("word", word) for word in ("a", "aa", "b")],
+            *[("is", ("field", word), BLANK) for word in ("b", "aa", "a")],
+        )
 
     def test_part_cells(self):
         self.cells([("part", "p", 0)], ("is", part(0), BLANK))
@@ -70,7 +73,8 @@ class QuestionCellsTest(unittest.TestCase):
     def test_the_order_of_the_sections(self):
         self.cells(
             [
-                ("word", "b"), ("word", "f"), ("part", "a", 0), ("part", "a", 1), ("part", "f", 0), ("set", "a"), ("set", "f"),
+                ("word", "b"), ("word", "f"), ("part", "a", 0), ("part", "a", 1), ("part", "f", 0), ("set", "a"),
+                ("set", "f"),
                 ("number", "a"), ("number", "f"),
             ],
             ("most", "f", "a", 0), ("within", "f", ("set", "a")), ("is", part(0, "f"), part(1, "a")),
@@ -133,7 +137,10 @@ class EarlierThanTest(unittest.TestCase):
 
     def test_parts(self):
         known = ("any", (("is", part(1, "f"), name("m")), ("is", part(0, "f"), name("b"))))
-        paths = [(), ("b",), ("b", "b"), ("b", "m"), ("b", "a"), ("m",), ("m", "m"), ("m", "c"), ("a",), ("a", "b"), ("a", "a"), ("c",)]
+        paths = [
+            (), ("b",), ("b", "b"), ("b", "m"), ("b", "a"), ("m",), ("m", "m"), ("m", "c"), ("a",), ("a", "b"),
+            ("a", "a"), ("c",),
+        ]
         self.earlier_values(known, "paths", paths)
 
     def test_sets(self):
@@ -141,7 +148,9 @@ class EarlierThanTest(unittest.TestCase):
         words = ("c", "m", "a", "b")
         sets = [[word for place, word in enumerate(words) if number >> place & 1] for number in range(16)]
         self.earlier_values(known, "sets", sets)
-        self.earlier_values(("within", "f", ("names", ())), "sets", [[], ["a"], ["b"], ["a", "b"], ["c"], ["a", "c"], ["b", "c"]])
+        self.earlier_values(
+            ("within", "f", ("names", ())), "sets", [[], ["a"], ["b"], ["a", "b"], ["c"], ["a", "c"], ["b", "c"]],
+        )
         # Words that no given request has are behind all others.
         condition = earlier_than(permits(known), (), YES, make_request(sets=[("f", ["m", "b"])]))
         for members, expected in (
@@ -162,9 +171,11 @@ class EarlierThanTest(unittest.TestCase):
         question = (CELLS, (), YES)
         ascending = [
             request(y=1), request(y=-1), request(x=1), request(x=-1, y=1), request(s=["c"]), request(s=["m"], y=5),
-            request(s=["c", "m"]), request(s=["a"], x=3), request(p=["c"]), request(p=["c", "c"]), request(p=["c", "m", "a"]),
+            request(s=["c", "m"]), request(s=["a"], x=3), request(p=["c"]), request(p=["c", "c"]),
+            request(p=["c", "m", "a"]),
             request(p=["m"], s=["b"]), request(p=["a", "a"]), request(p=["b"], s=["c"], y=-2), request(who="c"),
-            request(who="c", p=["c", "c"], x=-1), request(who="m"), request(who="a", x=7), request(who="b", p=["a"], s=["a", "m"]),
+            request(who="c", p=["c", "c"], x=-1), request(who="m"), request(who="a", x=7),
+            request(who="b", p=["a"], s=["a", "m"]),
         ]
         for one, other in itertools.combinations(ascending, 2):
             self.check(question, other, (one, NOTHING))
@@ -174,7 +185,9 @@ class EarlierThanTest(unittest.TestCase):
     def test_the_given_request_and_the_first_of_all(self):
         for question in ((CELLS, (), YES), ((), CELLS, NO), ((), (), CELLS[0][3])):
             first = earlier_than(*question, NOTHING)
-            for one in (NOTHING, make_request(words=[("who", "a")]), make_request(numbers=[("x", -BIG)], sets=[("s", ["a"])])):
+            for one in (
+                NOTHING, make_request(words=[("who", "a")]), make_request(numbers=[("x", -BIG)], sets=[("s", ["a"])]),
+            ):
                 self.assertIs(holds(first, one), False)
                 self.assertIs(holds(earlier_than(*question, one), one), False)
 
@@ -196,7 +209,10 @@ class EarlierThanTest(unittest.TestCase):
     def drawn(self, dice, words, numbers):
         some = [dice.choice(words) for _ in range(9)]
         return make_request(
-            words=[("who", dice.choice(["", *some])), ("owner", dice.choice(["", *some])), ("other", dice.choice(["", "a"]))],
+            words=[
+                ("who", dice.choice(["", *some])), ("owner", dice.choice(["", *some])),
+                ("other", dice.choice(["", "a"])),
+            ],
             paths=[("p", some[:dice.randrange(5)]), ("q", some[:dice.randrange(2)])],
             sets=[(field, some[dice.randrange(4):dice.randrange(5)]) for field in "stu"],
             numbers=[(field, dice.choice(numbers)) for field in "wxyz"],
@@ -264,7 +280,8 @@ class EarlierThanTest(unittest.TestCase):
         words = [(term[1], "b") for term in fields]
         given = make_request(words=words, paths=[("pa", ["b"] * 41), ("pe", ["b"] * 40)])
         self.check(question, given, (
-            NOTHING, make_request(words=words[:-1]), make_request(words=words, paths=[("pa", ["b"] * 41), ("pe", ["b"] * 39)]),
+            NOTHING, make_request(words=words[:-1]),
+            make_request(words=words, paths=[("pa", ["b"] * 41), ("pe", ["b"] * 39)]),
             make_request(words=words, paths=[("pa", ["b"] * 41), ("pe", ["b"] * 39 + ["a"])]),
             make_request(words=words, paths=[("pa", ["b"] * 41), ("pe", ["b"] * 42)]),
             make_request(words=words[1:] + [("fa", "a")]),

@@ -2,7 +2,8 @@ import random
 import unittest
 
 from questions import (
-    BLANK, NO, OWNER, POOLS, WHO, YES, answers, branches, is_taken, name, open_cases, part, random_question, whole_paper,
+    BLANK, NO, OWNER, POOLS, WHO, YES, answers, branches, is_taken, name, open_cases, part, random_question,
+    whole_paper,
 )
 from whomaywhat.models import least_model
 from whomaywhat.papers import judge
@@ -52,7 +53,9 @@ class JudgeTest(unittest.TestCase):
         ring = ("ring", ((FIVE, False), (TEN, True)))
         self.takes(left, right, YES, split(FIVE), LEFT, split(TEN), ring, RIGHT)
         self.rejects(left, (), YES, split(FIVE), LEFT, RIGHT)
-        self.assertIs(judge(left, right, ("true",), (("split", FIVE), ("left",), ("split", TEN), ring, ("right",))), True)
+        self.assertIs(
+            judge(left, right, ("true",), (("split", FIVE), ("left",), ("split", TEN), ring, ("right",))), True,
+        )
         self.assertIs(judge(left, (), ("true",), (("split", ("most", "", "size", -5)), ("left",), ("right",))), False)
 
     def test_no_line_and_lines_without_a_case(self):
@@ -118,7 +121,9 @@ class JudgeTest(unittest.TestCase):
 
     def test_ring(self):
         ring = ((FIVE, False), (TEN, True))
-        self.takes(EVERYTHING, (), ("all", (("not", FIVE), TEN)), split(FIVE), OUTSIDE, split(TEN), ("ring", ring), OUTSIDE)
+        self.takes(
+            EVERYTHING, (), ("all", (("not", FIVE), TEN)), split(FIVE), OUTSIDE, split(TEN), ("ring", ring), OUTSIDE,
+        )
         where = ("all", (("not", FIVE), TEN))
         for literals in (
             ring[::-1], ring + ring, ring * 3, ring[1:] + ring[:1],
@@ -143,7 +148,9 @@ class JudgeTest(unittest.TestCase):
         self.assertIs(judge(EVERYTHING, (), YES, case), False)
         atom = ("within", "s", ("set", "t"))
         self.assertIs(judge(EVERYTHING, (), YES, (split(atom), ("ring", ((atom, True), (atom, False))), LEFT)), False)
-        self.assertIs(judge(EVERYTHING, (), YES, (split(same(WHO, BLANK)[0]), ("ring", (same(WHO, BLANK),)), LEFT)), False)
+        self.assertIs(
+            judge(EVERYTHING, (), YES, (split(same(WHO, BLANK)[0]), ("ring", (same(WHO, BLANK),)), LEFT)), False,
+        )
 
     def test_huge_rings(self):
         low, high = ("most", "x", "y", -BIG), ("most", "x", "y", BIG)
@@ -163,7 +170,8 @@ class JudgeTest(unittest.TestCase):
         self.takes(EVERYTHING, (), where, split(bob), split(ann), ("steps", steps), OUTSIDE, OUTSIDE)
         for wrong in (
             (), steps[:-1], steps[:3] + steps[4:], steps + steps[-1:], (*steps[:-1], ("clash", 3, 3)),
-            (*steps[:-1], ("clash", 3, 5)), (*steps[:-1], ("clash", -2, -1)), (*steps[:4], ("unlike", "ann", "ann"), steps[-1]),
+            (*steps[:-1], ("clash", 3, 5)), (*steps[:-1], ("clash", -2, -1)),
+            (*steps[:4], ("unlike", "ann", "ann"), steps[-1]),
             (("given", (ann, False)), *steps[1:]),
         ):
             self.rejects(EVERYTHING, (), where, split(ann), split(bob), ("steps", wrong), OUTSIDE, OUTSIDE)

@@ -100,7 +100,9 @@ class BoxTest(unittest.TestCase):
         self.holds_exactly(self.words("", "b", "a"), ("is", WHO, name("b")))
         self.holds_exactly(self.words("", "b", "zoe", "a"), ("is", WHO, name("zoe")), ("is", name("b"), name("b")))
         self.holds_exactly(self.words("", "a", "b"), ("is", WHO, name("a")))
-        two = [make_request(words=[("owner", one), ("who", other)]) for one in ("", "a", "b") for other in ("", "a", "b")]
+        two = [
+            make_request(words=[("owner", one), ("who", other)]) for one in ("", "a", "b") for other in ("", "a", "b")
+        ]
         self.holds_exactly(two, ("is", WHO, OWNER))
 
     def test_parts(self):
@@ -158,7 +160,8 @@ class BoxTest(unittest.TestCase):
         found = list(box(permits(("any", (("in", part(0), "s"), ("is", WHO, BLANK), ("most", "", "x", 0)))), (), YES))
         self.assertEqual(len(found), 3 * 3 * 4 * 3)
         self.assertEqual(found[:4], [
-            NOTHING, make_request(numbers=[("x", 1)]), make_request(numbers=[("x", -1)]), make_request(sets=[("s", ["a"])]),
+            NOTHING, make_request(numbers=[("x", 1)]), make_request(numbers=[("x", -1)]),
+            make_request(sets=[("s", ["a"])]),
         ])
         self.assertEqual(found[-1], make_request(
             words=[("who", "b")], paths=[("p", ["b"])], sets=[("s", ["a", "b"])], numbers=[("x", -1)],
@@ -171,7 +174,8 @@ class BoxTest(unittest.TestCase):
         ))
         first = list(itertools.islice(box(permits(condition), (), YES), 4))
         self.assertEqual(first, [
-            NOTHING, make_request(numbers=[("y", 1)]), make_request(numbers=[("y", -1)]), make_request(numbers=[("y", 2)]),
+            NOTHING, make_request(numbers=[("y", 1)]), make_request(numbers=[("y", -1)]),
+            make_request(numbers=[("y", 2)]),
         ])
         answer = first_answer(permits(YES), (), ("not", ("most", "x", "y", -1)))
         self.assertEqual(answer, NOTHING)
@@ -207,9 +211,13 @@ class FirstAnswerTest(unittest.TestCase):
         self.assertIsNone(first_answer(permits(YES), permits(YES), YES))
         self.assertEqual(first_answer(permits(YES), (), YES), NOTHING)
         self.assertIsNone(first_answer(permits(YES), (), NO))
-        self.assertEqual(first_answer(permits(YES), permits(("is", WHO, BLANK)), YES), make_request(words=[("who", "a")]))
+        self.assertEqual(
+            first_answer(permits(YES), permits(("is", WHO, BLANK)), YES), make_request(words=[("who", "a")]),
+        )
         forbidden = (("a", "permit", 0, YES), ("b", "forbid", 0, ("most", "", "x", 0)))
-        self.assertEqual(first_answer(permits(YES), forbidden, ("not", ("is", WHO, BLANK))), make_request(words=[("who", "a")]))
+        self.assertEqual(
+            first_answer(permits(YES), forbidden, ("not", ("is", WHO, BLANK))), make_request(words=[("who", "a")]),
+        )
         self.assertEqual(first_answer(forbidden, (), YES), make_request(numbers=[("x", -1)]))
         self.assertEqual(
             first_answer(permits(("most", "size", "", 9)), permits(("most", "size", "", 4)), YES),

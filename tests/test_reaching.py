@@ -14,6 +14,7 @@ from whomaywhat.reaching import first_let_in, reach_of, way_in
 from whomaywhat.requests import make_request, word_of
 from whomaywhat.rules import decide
 from whomaywhat.views import view_of
+from whomaywhat.words import word_at
 
 NOTHING = make_request()
 SOMEBODY = ("not", ("is", WHO, BLANK))
@@ -48,7 +49,8 @@ class ReachOfTest(unittest.TestCase):
 
     def test_grants(self):
         house = deeds(
-            House([rule("z", YES, "forbid", -3)]), ("give", "ann", SMALL, 2), ("give", "bob", YES, 0), ("pass", 1, "cid", TINY),
+            House([rule("z", YES, "forbid", -3)]), ("give", "ann", SMALL, 2), ("give", "bob", YES, 0),
+            ("pass", 1, "cid", TINY),
             ("pass", 3, "dan", YES),
         )
         self.assertEqual(reach_of(house), (
@@ -60,14 +62,19 @@ class ReachOfTest(unittest.TestCase):
         ))
 
     def test_revoked_grants(self):
-        house = deeds(House(), ("give", "ann", YES, 3), ("pass", 1, "bob", SMALL), ("pass", 2, "cid", TINY), ("give", "dan", NO, 1))
+        house = deeds(
+            House(), ("give", "ann", YES, 3), ("pass", 1, "bob", SMALL), ("pass", 2, "cid", TINY),
+            ("give", "dan", NO, 1),
+        )
         house.do(("revoke", 2))
         self.assertEqual([one[0] for one in reach_of(house)], ["granta", "grantd"])
         house.do(("revoke", 1))
         self.assertEqual(reach_of(house), (("grantd", "permit", 0, ("all", (SOMEBODY, NO))),))
 
     def test_the_conditions_are_compiled(self):
-        house = deeds(House((), [("ann", "staff"), ("bob", "staff")]), ("give", "cid", STAFF, 1), ("give", "cid", STAFF, 0))
+        house = deeds(
+            House((), [("ann", "staff"), ("bob", "staff")]), ("give", "cid", STAFF, 1), ("give", "cid", STAFF, 0),
+        )
         staff = ("any", (ANN, ("is", WHO, name("bob"))))
         self.assertEqual(reach_of(house), (
             ("granta", "permit", 0, ("all", (SOMEBODY, staff))),
@@ -75,7 +82,9 @@ class ReachOfTest(unittest.TestCase):
         ))
 
     def test_only_the_first_condition_is_replaced(self):
-        house = deeds(House([rule("a", ("all", (ANN, YES)))]), ("give", "ann", ("all", (ANN, ANN)), 1), ("pass", 1, "ann", ANN))
+        house = deeds(
+            House([rule("a", ("all", (ANN, YES)))]), ("give", "ann", ("all", (ANN, ANN)), 1), ("pass", 1, "ann", ANN),
+        )
         self.assertEqual(reach_of(house), (
             rule("a", ("all", (ANN, YES))), ("granta", "permit", 0, ("all", (SOMEBODY, ("all", (ANN, ANN))))),
             ("grantb", "permit", 0, ("all", (ANN, ("all", (ANN, ANN)), ANN))),
@@ -86,8 +95,7 @@ class ReachOfTest(unittest.TestCase):
         for number in range(30):
             house.do(("give", "ann", YES, number % 2))
         opened = [one[0] for one in reach_of(house) if one[3][1][0] == SOMEBODY]
-        self.assertEqual(opened, sorted(one[0] for one in Grants(
-            [record for record in house.state()[2]]).rules() if one[0][5:] in "b d f h j l n p r t v x z ab ad".split()))
+        self.assertEqual(opened, sorted("grant" + word_at(number) for number in range(2, 31, 2)))
 
 
 class WayInTest(unittest.TestCase):
@@ -112,7 +120,10 @@ class WayInTest(unittest.TestCase):
         house = deeds(House(), ("give", "ann", SMALL, 1))
         self.way(("pass", 1, "bob", YES), house, sized("bob", 9))
         self.way(("pass", 1, "a", YES), house, who("a"))
-        self.way(("pass", 1, "bob", ("true",)), house, make_request(words=[("owner", "cid"), ("who", "bob")], sets=[("s", ["x"])]))
+        self.way(
+            ("pass", 1, "bob", ("true",)), house,
+            make_request(words=[("owner", "cid"), ("who", "bob")], sets=[("s", ["x"])]),
+        )
 
     def test_none(self):
         house = deeds(House([rule("z", ("is", WHO, name("eve")))]), ("give", "ann", SMALL, 1), ("give", "bob", YES, 0))
@@ -120,7 +131,9 @@ class WayInTest(unittest.TestCase):
         for request in (sized("ann", 9), sized("bob", 99), who("eve")):
             self.way(None, house, request)
         # The reach refuses it: nobody asks, the condition does not hold, or no rule applies.
-        for request in (NOTHING, make_request(words=[("owner", "cid")]), sized("cid", 10), sized("ann", 10), sized("zoe", 11)):
+        for request in (
+            NOTHING, make_request(words=[("owner", "cid")]), sized("cid", 10), sized("ann", 10), sized("zoe", 11),
+        ):
             self.way(None, house, request)
         house.do(("revoke", 1))
         self.way(None, house, sized("cid", 1))
@@ -135,7 +148,8 @@ class WayInTest(unittest.TestCase):
 
     def test_the_least_number(self):
         house = deeds(
-            House(), ("give", "ann", TINY, 0), ("give", "ann", TINY, 1), ("give", "ann", SMALL, 2), ("give", "ann", SMALL, 1),
+            House(), ("give", "ann", TINY, 0), ("give", "ann", TINY, 1), ("give", "ann", SMALL, 2),
+            ("give", "ann", SMALL, 1),
             ("give", "ann", YES, 1),
         )
         for size, number in ((3, 2), (4, 3), (9, 3), (10, 5), (10 ** 30, 5), (-5, 2)):
@@ -155,7 +169,10 @@ class WayInTest(unittest.TestCase):
 
     def test_the_whole_chain_must_hold(self):
         red, blue = ("in", name("red"), "tags"), ("in", name("blue"), "tags")
-        house = deeds(House(), ("give", "ann", red, 3), ("pass", 1, "bob", blue), ("pass", 2, "cid", SMALL), ("give", "dan", blue, 1))
+        house = deeds(
+            House(), ("give", "ann", red, 3), ("pass", 1, "bob", blue), ("pass", 2, "cid", SMALL),
+            ("give", "dan", blue, 1),
+        )
 
         def tagged(*tags):
             return make_request(words=[("who", "zoe")], sets=[("tags", tags)], numbers=[("size", 10)])
@@ -234,13 +251,16 @@ class FirstLetInTest(unittest.TestCase):
 
 def random_house(dice):
     rules = [
-        (word, dice.choice(("permit", "forbid")), dice.choice((-1, 0, 1)), random_condition(dice, 2)) for word in dice.sample("pqr", 2)
+        (word, dice.choice(("permit", "forbid")), dice.choice((-1, 0, 1)), random_condition(dice, 2))
+        for word in dice.sample("pqr", 2)
     ]
     house = House(rules, [("a", "s"), ("s", "t"), ("b", "who"), ("aa", "in")])
     for _ in range(dice.randrange(1, 4)):
         house.do(("give", dice.choice(("a", "b", "who", "zoe")), random_condition(dice, 2), dice.randrange(3)))
     for _ in range(3):
-        passable = [record[0] for record in house.state()[2] if record[4] and record[0] in Grants(house.state()[2]).standing()]
+        passable = [
+            record[0] for record in house.state()[2] if record[4] and record[0] in Grants(house.state()[2]).standing()
+        ]
         if passable:
             house.do(("pass", dice.choice(passable), dice.choice(("a", "b", "who")), random_condition(dice, 2)))
     if dice.random() < 0.5:

@@ -163,11 +163,14 @@ class TrimmedTest(unittest.TestCase):
 
     def test_steps_use_the_literals_in_them(self):
         is_ann, in_s, in_t = ("is", WHO, ANN), ("in", WHO, "s"), ("in", WHO, "t")
-        s_in_t, s_in_u, u_in_t = (("within", *pair) for pair in (("s", ("set", "t")), ("s", ("set", "u")), ("u", ("set", "t"))))
+        s_in_t, s_in_u, u_in_t = (
+            ("within", *pair) for pair in (("s", ("set", "t")), ("s", ("set", "u")), ("u", ("set", "t")))
+        )
         ann_in_s = ("in", ANN, "s")
         self.keeps_all_splits(
             ((is_ann, True), (in_s, True), (ann_in_s, False)),
-            ("given", (is_ann, True)), ("turn", 0), ("given", (in_s, True)), ("join", 1, 2), ("given", (ann_in_s, False)),
+            ("given", (is_ann, True)), ("turn", 0), ("given", (in_s, True)), ("join", 1, 2),
+            ("given", (ann_in_s, False)),
             ("clash", 3, 4),
         )
         self.keeps_all_splits(
@@ -198,7 +201,8 @@ class TrimmedTest(unittest.TestCase):
         other = ("other", *lacks[1:])
         is_bob = ("is", BOB, other)
         true_steps = (
-            ("given", (is_bob, True)), ("over", (lacks, False)), ("join", 0, 1), ("given", (bob_in_s, False)), ("clash", 2, 3),
+            ("given", (is_bob, True)), ("over", (lacks, False)), ("join", 0, 1), ("given", (bob_in_s, False)),
+            ("clash", 2, 3),
         )
         false_steps = (
             ("given", (is_bob, False)), ("turn", 0), ("beyond", (lacks, False), "ann"), ("over", (lacks, False)),

@@ -88,7 +88,10 @@ class ArgumentsTest(unittest.TestCase):
     def test_sets_of_rules(self):
         rules = list(RULES)
         directory = Directory(LINKS)
-        for function in (lambda: decide(rules, ANN, directory), lambda: applying(rules, ANN, directory), lambda: view_of(rules, directory)):
+        for function in (
+            lambda: decide(rules, ANN, directory), lambda: applying(rules, ANN, directory),
+            lambda: view_of(rules, directory),
+        ):
             expected = function()
             rules.reverse()
             self.assertEqual(function(), expected)
@@ -123,8 +126,10 @@ class ResultsTest(unittest.TestCase):
         house.ask(ANN)
         other = make_request(words=[("who", "cid")])
         results = [
-            view, house.state(), house.rules(), house.view(), house.kept(), house.ask(ANN), reach_of(house), way_in(house, other),
-            first_let_in(house), compare(view, ()), compare((), view), compare(view, (), where=("in", OWNER, "s")), lean(view),
+            view, house.state(), house.rules(), house.view(), house.kept(), house.ask(ANN), reach_of(house),
+            way_in(house, other),
+            first_let_in(house), compare(view, ()), compare((), view), compare(view, (), where=("in", OWNER, "s")),
+            lean(view),
             question_cells(view, (), YES), earlier_than(view, (), YES, ANN), needed_pairs(RULES[1][3]),
             *list(box(view[:1], (), YES)),
         ]

@@ -128,7 +128,10 @@ class LeanTest(unittest.TestCase):
         self.leans("", ("forbid", 5, YES), ("permit", 0, ANN), ("permit", 1, BOB), ("permit", 4, YES))
         # A permitting rule, too: a overrides b, and below b the rule c permits the same.
         self.leans("c", ("permit", 2, ANN), ("forbid", 1, ANN), ("permit", 0, ANN))
-        self.leans("cd", ("forbid", 2, ANN), ("permit", 1, ANN), ("forbid", 0, BOB), ("permit", 0, ("any", (BOB, ("is", WHO, BLANK)))))
+        self.leans(
+            "cd", ("forbid", 2, ANN), ("permit", 1, ANN), ("forbid", 0, BOB),
+            ("permit", 0, ("any", (BOB, ("is", WHO, BLANK)))),
+        )
 
     def plainly_lean(self, view):
         """Leaves the first idle rule out as long as there is one; idle is told by a walk through a box."""
@@ -160,13 +163,19 @@ class LeanTest(unittest.TestCase):
         words = [word_at(number + 1) for number in range(4)]
         for _ in range(100):
             view = rules(*[
-                (dice.choice(("permit", "forbid")), dice.randrange(4), dice.choice([("is", WHO, name(word)) for word in words] + [YES]))
+                (
+                    dice.choice(("permit", "forbid")), dice.randrange(4),
+                    dice.choice([("is", WHO, name(word)) for word in words] + [YES]),
+                )
                 for _ in range(12)
             ])
             self.assertEqual(lean(view), self.plainly_lean(view))
 
     def test_a_long_view(self):
-        many = [("permit" if number % 3 else "forbid", number % 5, ("in", WHO, "s" + word_at(number + 1))) for number in range(40)]
+        many = [
+            ("permit" if number % 3 else "forbid", number % 5, ("in", WHO, "s" + word_at(number + 1)))
+            for number in range(40)
+        ]
         view = rules(*many, *many)
         result = lean(tuple(sorted(view)))
         self.assertIs(same_view(view, result), True)
@@ -261,7 +270,8 @@ class LeastPermittedTest(unittest.TestCase):
 class MeetingTest(unittest.TestCase):
     def test_rules(self):
         view = rules(
-            ("permit", 3, ("any", (ANN, BOB))), ("forbid", -7, ("any", (BOB, ("is", WHO, BLANK)))), ("permit", 0, ("is", WHO, BLANK)),
+            ("permit", 3, ("any", (ANN, BOB))), ("forbid", -7, ("any", (BOB, ("is", WHO, BLANK)))),
+            ("permit", 0, ("is", WHO, BLANK)),
             ("forbid", 0, NO), ("permit", 1, YES),
         )
         for one, other, expected in (
@@ -272,7 +282,10 @@ class MeetingTest(unittest.TestCase):
             self.assertEqual(meeting(view, other, one), expected)
 
     def test_only_the_words_of_the_two_conditions_count(self):
-        view = permits(("not", ("is", WHO, BLANK)), ("not", ("is", WHO, OWNER)), ("is", OWNER, name("zoe")), ("in", name("m"), "s"))
+        view = permits(
+            ("not", ("is", WHO, BLANK)), ("not", ("is", WHO, OWNER)), ("is", OWNER, name("zoe")),
+            ("in", name("m"), "s"),
+        )
         self.assertEqual(meeting(view, "a", "b"), who("a"))
         self.assertEqual(meeting(view, "a", "c"), make_request(words=[("owner", "zoe"), ("who", "zoe")]))
         self.assertEqual(meeting(view, "a", "d"), make_request(words=[("who", "m")], sets=[("s", ["m"])]))
@@ -292,7 +305,9 @@ class MeetingTest(unittest.TestCase):
         while min(seen.values()) < 60:
             items = dice.choice(POOLS)
             first, second = simple_condition(dice, items), primitive_condition(dice, items, 3)
-            view = rules(("permit", 0, first), ("forbid", 5, primitive_condition(dice, items, 2)), ("forbid", 9, second))
+            view = rules(
+                ("permit", 0, first), ("forbid", 5, primitive_condition(dice, items, 2)), ("forbid", 9, second),
+            )
             both = permits(("all", (first, second)))
             if box_size((both, (), YES)) > 1000:
                 continue

@@ -63,11 +63,9 @@ def _guess_of_several(forms, deciding, truths):
 
 
 def untold_atom(form, truths):
-    """The first atom in the form on which its guess, which is None, may depend."""
+    """The first atom on which the guess of the form, which is None, may depend; no "not" is in it."""
     if form[0] == "literal":
         return form[1]
-    if form[0] == "not":
-        return untold_atom(form[1], truths)
     unsure = [inner for inner in form[1] if guess_of(inner, truths) is None]
     return untold_atom(unsure[0], truths)
 

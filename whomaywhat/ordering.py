@@ -3,7 +3,6 @@
 from whomaywhat.atoms import number_fields_of, set_fields_of, terms_of
 from whomaywhat.conditions import FALSE
 from whomaywhat.requests import members_of, number_key, number_of, part_of, set_key, word_of
-from whomaywhat.terms import BLANK
 from whomaywhat.views import mentioned_words, simple_conditions
 from whomaywhat.words import fresh_words, stock_place, word_number
 
@@ -99,22 +98,18 @@ def _words_before(mentioned, word):
 
 
 def _conditions_of_set(mentioned, field, members):
-    """The conditions of a set; it is earlier if it lacks one of the members and agrees behind it."""
-    members = sorted(members, key=lambda member: stock_place(mentioned, member), reverse=True)
+    """The conditions of a set: it is earlier if it lacks a member and has no other word behind it."""
     earlier = []
-    agreed = []
-    for member in members:
-        allowed = [*agreed, *_words_before(mentioned, member)]
-        earlier.append(_set_with(field, agreed, allowed))
-        agreed.append(member)
-    return (_any_of(earlier), _set_with(field, members, members))
-
-
-def _set_with(field, members, allowed):
-    """The condition that these words are members and no words are but the allowed ones."""
-    names = tuple(sorted(allowed))
+    behind = []
+    for member in sorted(members, key=lambda one: stock_place(mentioned, one), reverse=True):
+        earlier.append(_within(field, [*behind, *_words_before(mentioned, member)]))
+        behind.append(member)
     known = [("in", ("name", member), field) for member in members]
-    return ("all", (*known, ("within", field, ("names", names))))
+    return (_any_of(earlier), ("all", (*known, _within(field, members))))
+
+
+def _within(field, words):
+    return ("within", field, ("names", tuple(sorted(words))))
 
 
 def _conditions_of_number(field, number):
