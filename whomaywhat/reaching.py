@@ -6,10 +6,9 @@ from whomaywhat.grants import Grants, grant_name
 from whomaywhat.requests import word_of
 from whomaywhat.rules import decide
 from whomaywhat.searching import earliest_answer
-from whomaywhat.terms import BLANK
 from whomaywhat.views import view_of
 
-ANYBODY = ("not", ("is", ("field", "who"), BLANK))
+ANYBODY = ("not", ("is", ("field", "who"), ("name", "")))
 
 
 def reach_of(house):

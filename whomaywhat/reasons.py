@@ -76,7 +76,7 @@ class Why:
             value, reason = self.decided_by(form, known)
             if value == deciding:
                 best = self.better(best, reason)
-            together.update(reason)
+            _add_to(together, reason)
         if best is None:
             return not deciding, together
         return deciding, best
@@ -95,7 +95,12 @@ class Why:
             if other != effect:
                 if value:
                     return best
-                against.update(reason)
+                _add_to(against, reason)
             elif value:
                 best = self.better(best, {**against, **reason})
         return self.better(best, against) if effect == "forbid" else best
+
+
+def _add_to(atoms, more):
+    for atom in more:
+        atoms[atom] = True
